@@ -1,0 +1,1 @@
+"""Ordermerge: merging independent reorderings of a list without conflicts."""

@@ -1,0 +1,63 @@
+"""What the tests of the package have in common."""
+
+import unittest
+
+
+class Plain:
+    """An object that is none of the builtin values."""
+
+
+def no_strings():
+    """Return values of many kinds that are not strings."""
+    return [
+        None, True, False, 0, 1, -1, 10 ** 30, b"a", [], ["a"], [["a"]], (), ("a",), {}, {"a": 1}, set(), {"a"},
+        frozenset(["a"]), range(2), Plain(), Plain, len, AlwaysEqual(),
+    ]
+
+
+def no_lists():
+    """Return values of many kinds that are not lists."""
+    return [value for value in no_strings() if not isinstance(value, list)] + ["", "a", "a b", ("a", "b")]
+
+
+def no_names():
+    """Return values of many kinds that are not names."""
+    return no_strings() + [
+        "", "abcdefghi", "a" * 1000, "A", "aB", "Ann", "1", "a1", " ", "a b", " a", "a ", "\n", "a\n", "\na", "a\nb",
+        "\t", "a_b", "_", "-", "`", "{", "a.", "\u00e9", "caf\u00e9", "\u00df", "\u0430", "\uff41", "\u00aa",
+    ]
+
+
+class AlwaysEqual:
+    """An object that claims to be equal to everything, and that cannot be a key of a dict."""
+
+    __hash__ = None
+
+    def __eq__(self, other):
+        return True
+
+
+def forty_names():
+    """Return forty different names, not in the sequence of the alphabet."""
+    return [last + first for first in "dbca" for last in "jihgfedcba"]
+
+
+class ErrorCase(unittest.TestCase):
+    """A test case that looks at the class and at the attributes of an error."""
+
+    def error_of(self, error_class, call, *args, **named):
+        """Return the error that the call raises; it is of this very class."""
+        with self.assertRaises(error_class) as context:
+            call(*args, **named)
+        self.assertIs(type(context.exception), error_class)
+        return context.exception
+
+    def check_error(self, expected, call, *args, **named):
+        """Check that the call raises an error of the same class, with the same attributes, as the expected one."""
+        error = self.error_of(type(expected), call, *args, **named)
+        # By repr, because True is equal to 1.
+        self.assertEqual(repr(vars(error)), repr(vars(expected)))
+
+    def check_unknown(self, error_class, value, call, *args, **named):
+        """Check that the call raises an error of this class with this very value."""
+        self.assertIs(self.error_of(error_class, call, *args, **named).value, value)

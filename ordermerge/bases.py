@@ -65,6 +65,19 @@ class Base:
         return self.position_of(first) < self.position_of(second)
 
 
+def check_item(base, value):
+    """Raise UnknownItem if the value is not an item of the base."""
+    if not base.has_item(value):
+        raise UnknownItem(value)
+
+
+def pair_of(base, first, second):
+    """Return two items, given in any sequence, as a tuple by rising position."""
+    if base.precedes(first, second):
+        return (first, second)
+    return (second, first)
+
+
 def order_fault(base, value):
     """Return the position that InvalidOrder has for this value, or None if the value is an order."""
     if not isinstance(value, list):

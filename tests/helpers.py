@@ -1,6 +1,7 @@
 """What the tests of the package have in common."""
 
 import unittest
+from itertools import permutations
 
 
 class Plain:
@@ -28,6 +29,16 @@ def no_names():
     ]
 
 
+def no_integers():
+    """Return values of many kinds that are not integers; True and False are none."""
+    return [value for value in no_strings() if type(value) is not int] + ["", "0", "1", "a", (0,), [0], {0: 0}, b"0"]
+
+
+def no_tuples():
+    """Return values of many kinds that are not tuples."""
+    return [value for value in no_lists() if not isinstance(value, tuple)] + [["a", "b"], [0, ""], [["a", "b"]]]
+
+
 class AlwaysEqual:
     """An object that claims to be equal to everything, and that cannot be a key of a dict."""
 
@@ -40,6 +51,21 @@ class AlwaysEqual:
 def forty_names():
     """Return forty different names, not in the sequence of the alphabet."""
     return [last + first for first in "dbca" for last in "jihgfedcba"]
+
+
+def all_orders(names):
+    """Return all orders of these names, each as a list."""
+    return [list(order) for order in permutations(names)]
+
+
+def pairs_in(names):
+    """Return all pairs of these names, by the position of first, then of second."""
+    return [(first, second) for at, first in enumerate(names) for second in names[at + 1:]]
+
+
+def inverted_in(names, order):
+    """Return the inverted pairs of an order, found pair by pair."""
+    return [(first, second) for first, second in pairs_in(names) if order.index(second) < order.index(first)]
 
 
 class ErrorCase(unittest.TestCase):
@@ -58,6 +84,6 @@ class ErrorCase(unittest.TestCase):
         # By repr, because True is equal to 1.
         self.assertEqual(repr(vars(error)), repr(vars(expected)))
 
-    def check_unknown(self, error_class, value, call, *args, **named):
+    def check_value(self, error_class, value, call, *args, **named):
         """Check that the call raises an error of this class with this very value."""
         self.assertIs(self.error_of(error_class, call, *args, **named).value, value)

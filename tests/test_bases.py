@@ -188,7 +188,7 @@ class ItemsTest(ErrorCase):
     def test_position_of_an_unknown_item(self):
         for value in ["e", "ab"] + no_names():
             with self.subTest(value=value):
-                self.check_unknown(UnknownItem, value, self.base.position_of, value)
+                self.check_value(UnknownItem, value, self.base.position_of, value)
 
     def test_precedes_compares_positions_and_not_letters(self):
         names = ["zoo", "a", "m"]
@@ -201,10 +201,10 @@ class ItemsTest(ErrorCase):
     def test_precedes_with_unknown_items(self):
         for value in ["e", "ab"] + no_names():
             with self.subTest(value=value):
-                self.check_unknown(UnknownItem, value, self.base.precedes, value, "a")
-                self.check_unknown(UnknownItem, value, self.base.precedes, "a", value)
-                self.check_unknown(UnknownItem, value, self.base.precedes, value, ["other"])
-                self.check_unknown(UnknownItem, value, self.base.precedes, value, "f")
+                self.check_value(UnknownItem, value, self.base.precedes, value, "a")
+                self.check_value(UnknownItem, value, self.base.precedes, "a", value)
+                self.check_value(UnknownItem, value, self.base.precedes, value, ["other"])
+                self.check_value(UnknownItem, value, self.base.precedes, value, "f")
 
 
 if __name__ == "__main__":

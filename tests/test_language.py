@@ -49,6 +49,44 @@ def defined_at_module_level(tree):
     return names + [node.targets[0].id for node in tree.body if isinstance(node, ast.Assign)]
 
 
+def local_names(tree):
+    """Return the names of the parameters and variables of functions and comprehensions."""
+    outside = {id(node) for statement in tree.body if isinstance(statement, ast.Assign) for node in statement.targets}
+    names = [node.arg for node in ast.walk(tree) if isinstance(node, ast.arg)]
+    return names + [
+        node.id for node in ast.walk(tree)
+        if isinstance(node, ast.Name) and isinstance(node.ctx, ast.Store) and id(node) not in outside
+    ]
+
+
+def methods_of(tree):
+    return [
+        node.name for parent in tree.body if isinstance(parent, ast.ClassDef)
+        for node in parent.body if isinstance(node, ast.FunctionDef)
+    ]
+
+
+def attributes_of(tree):
+    return [
+        node.attr for node in ast.walk(tree) if isinstance(node, ast.Attribute) and isinstance(node.ctx, ast.Store)
+    ]
+
+
+def imported_modules(tree):
+    return [node.module.split(".")[-1] for node in tree.body if isinstance(node, ast.ImportFrom)]
+
+
+def reached_from(module, modules):
+    """Return the set of the modules that a module imports, directly or through others."""
+    reached, waiting = set(), imported_modules(modules[module])
+    while waiting:
+        name = waiting.pop()
+        if name not in reached:
+            reached.add(name)
+            waiting += imported_modules(modules[name])
+    return reached
+
+
 class FilesTest(unittest.TestCase):
     def test_the_folder_contains_only_modules(self):
         found = [path.name for path in PACKAGE.iterdir() if path.name != "__pycache__"]
@@ -84,6 +122,27 @@ class NamesTest(unittest.TestCase):
                         self.assertEqual((package, node.level), ("ordermerge", 0))
                         for alias in node.names:
                             self.assertIn(alias.name, defined_at_module_level(modules[name]))
+
+    def test_no_module_imports_itself_through_others(self):
+        modules = trees()
+        for module in modules:
+            self.assertNotIn(module, reached_from(module, modules))
+
+    def test_local_names_have_no_other_meaning(self):
+        for module, tree in trees().items():
+            taken = set(dir(builtins)) | {node.name for node in tree.body if isinstance(node, ast.ClassDef)}
+            for node in tree.body:
+                if isinstance(node, ast.ImportFrom):
+                    taken |= {alias.name for alias in node.names}
+            with self.subTest(module=module):
+                self.assertEqual(sorted(set(local_names(tree)) & taken), [])
+
+    def test_no_name_is_a_method_and_an_attribute(self):
+        methods = {name for tree in trees().values() for name in methods_of(tree)}
+        attributes = {name for tree in trees().values() for name in attributes_of(tree)}
+        self.assertIn("swap", methods)
+        self.assertIn("position", attributes)
+        self.assertEqual(sorted(methods & attributes), [])
 
     def test_names_do_not_begin_with_an_underscore(self):
         for module, tree in trees().items():

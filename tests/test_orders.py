@@ -111,10 +111,10 @@ class IsInvertedTest(ErrorCase):
     def test_unknown_items(self):
         for value in ["e", "ab"] + no_names():
             with self.subTest(value=value):
-                self.check_unknown(UnknownItem, value, is_inverted, self.base, self.order, value, "a")
-                self.check_unknown(UnknownItem, value, is_inverted, self.base, self.order, "a", value)
-                self.check_unknown(UnknownItem, value, is_inverted, self.base, self.order, value, "f")
-                self.check_unknown(UnknownItem, value, is_inverted, self.base, self.order, value, ["other"])
+                self.check_value(UnknownItem, value, is_inverted, self.base, self.order, value, "a")
+                self.check_value(UnknownItem, value, is_inverted, self.base, self.order, "a", value)
+                self.check_value(UnknownItem, value, is_inverted, self.base, self.order, value, "f")
+                self.check_value(UnknownItem, value, is_inverted, self.base, self.order, value, ["other"])
 
     def test_two_equal_values_that_are_no_items(self):
         self.check_error(UnknownItem("e"), is_inverted, self.base, self.order, "e", "e")

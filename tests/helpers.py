@@ -68,6 +68,19 @@ def inverted_in(names, order):
     return [(first, second) for first, second in pairs_in(names) if order.index(second) < order.index(first)]
 
 
+def all_words(names, order):
+    """Return all words of an order: the lists of outward swaps that lead to it."""
+    if order == names:
+        return [[]]
+    words = []
+    for index in range(len(names) - 1):
+        left, right = order[index], order[index + 1]
+        if names.index(left) > names.index(right):
+            before = order[:index] + [right, left] + order[index + 2:]
+            words += [word + [index] for word in all_words(names, before)]
+    return words
+
+
 class ErrorCase(unittest.TestCase):
     """A test case that looks at the class and at the attributes of an error."""
 

@@ -4,6 +4,10 @@ import copy
 import unittest
 
 from ordermerge.bases import Base, inverted_pairs, is_inverted, is_name, is_order
+from ordermerge.explain import explain_inverted, explain_upright, is_chain, is_meet_chain
+from ordermerge.histories import first_break, is_history, log_from_pairs, pairs_of_log
+from ordermerge.merging import is_within, join_orders, meet_orders
+from ordermerge.moves import apply_move, are_moves, is_word, moves_between, order_of_word, word_of
 from ordermerge.order_text import dump_base, dump_order, load_base, load_order
 from ordermerge.pair_sets import is_inversion_set, obstruction, order_from_pairs, part_about
 from ordermerge.swap_log import SwapLog, log_from_entries
@@ -15,6 +19,10 @@ OTHER = ["z", "a", "m", "k"]
 ENTRIES = [(0, ""), (1, "urgent"), (0, "x")]
 PAIRS = [("m", "a"), ("m", "z")]
 SPLIT = [("m", "a"), ("z", "k")]
+HISTORY = [("m", "z"), ("m", "a"), ("z", "a")]
+ORDERS = [["z", "a", "m", "k"], ["m", "z", "k", "a"]]
+CHAIN = [("m", "a", 0), ("a", "k", 1)]
+EXPLAINED = {"base": BASE, "orders": ORDERS, "first": "k", "second": "m"}
 
 # Each function and class with its arguments by the names and in the sequence of the interface.
 FUNCTIONS = [
@@ -53,6 +61,39 @@ FUNCTIONS = [
     (part_about, {"base": BASE, "pairs": PAIRS, "first": "z", "second": "k", "third": "m"}),
     (part_about, {"base": BASE, "pairs": PAIRS, "first": "z", "second": "a", "third": "m"}),
     (part_about, {"base": BASE, "pairs": PAIRS, "first": "z", "second": ["a"], "third": "m"}),
+    (pairs_of_log, {"log": log_from_entries(BASE, ENTRIES)}),
+    (first_break, {"base": BASE, "pairs": SPLIT}),
+    (first_break, {"base": BASE, "pairs": PAIRS + PAIRS}),
+    (is_history, {"base": BASE, "value": HISTORY}),
+    (is_history, {"base": BASE, "value": [["m", "z"]]}),
+    (log_from_pairs, {"base": BASE, "pairs": HISTORY}),
+    (log_from_pairs, {"base": BASE, "pairs": SPLIT}),
+    (is_word, {"base": BASE, "value": [0, 1, 0]}),
+    (is_word, {"base": BASE, "value": [0, [1]]}),
+    (word_of, {"log": log_from_entries(BASE, ENTRIES)}),
+    (order_of_word, {"base": BASE, "word": [0, 1, 0]}),
+    (order_of_word, {"base": BASE, "word": [0, 1, 1]}),
+    (apply_move, {"base": BASE, "word": [0, 1, 0], "move": ("braid", 0)}),
+    (apply_move, {"base": BASE, "word": [2, 0, 1], "move": ("commute", 0)}),
+    (apply_move, {"base": BASE, "word": [2, 0, 1], "move": ["commute", 0]}),
+    (moves_between, {"base": BASE, "first": [0, 2, 1, 2], "second": [2, 0, 1, 2]}),
+    (moves_between, {"base": BASE, "first": [0, 2], "second": [0, 1]}),
+    (are_moves, {"base": BASE, "first": [0, 2], "second": [2, 0], "value": [("commute", 0)]}),
+    (are_moves, {"base": BASE, "first": [0, 2], "second": [2, 0], "value": [["commute", 0]]}),
+    (is_within, {"base": BASE, "order": ["z", "m", "a", "k"], "other": OTHER}),
+    (is_within, {"base": BASE, "order": ["z", "m"], "other": OTHER}),
+    (join_orders, {"base": BASE, "orders": ORDERS}),
+    (join_orders, {"base": BASE, "orders": [ORDER, ["m"]]}),
+    (meet_orders, {"base": BASE, "orders": ORDERS}),
+    (meet_orders, {"base": BASE, "orders": [ORDER]}),
+    (explain_inverted, EXPLAINED),
+    (explain_inverted, {**EXPLAINED, "first": "m"}),
+    (explain_upright, EXPLAINED),
+    (explain_upright, {**EXPLAINED, "first": ["m"]}),
+    (is_chain, {**EXPLAINED, "value": CHAIN}),
+    (is_chain, {**EXPLAINED, "value": [list(link) for link in CHAIN]}),
+    (is_meet_chain, {**EXPLAINED, "value": [("m", "k", 0)]}),
+    (is_meet_chain, {**EXPLAINED, "value": [["m", "k", 0]]}),
 ]
 
 # The same for methods, with a function that creates their object anew.
@@ -97,6 +138,8 @@ NAMED_ONLY = [
     (lambda: log_from_entries(BASE, ENTRIES).swap, [2], "reason", "", "why"),
     (lambda: log_from_entries(BASE, ENTRIES).move, ["k", 0], "reason", "", "why"),
     (lambda: log_from_entries(BASE, ENTRIES).adopt, [ORDER], "reason", "", "why"),
+    (lambda: log_from_pairs, [BASE, HISTORY], "reason", "", "why"),
+    (lambda: moves_between, [BASE, [0, 2], [2, 0]], "limit", 5, 3),
 ]
 
 

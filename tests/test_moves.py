@@ -1,5 +1,6 @@
 """Tests of ordermerge.moves."""
 
+import os
 import random
 import unittest
 from itertools import product
@@ -194,6 +195,13 @@ class MovesBetweenTest(ErrorCase):
             words = all_words(FIVE, order)
             for first in words:
                 second = chance.choice(words)
+                self.assertEqual(led_by_the_text(first, moves_between(base, first, second)), second)
+
+    @unittest.skipUnless(os.environ.get("ALL_WORDS"), "takes minutes; .ci/run sets ALL_WORDS=1")
+    def test_any_two_words_of_five_items(self):
+        base = Base(FIVE)
+        for order in all_orders(FIVE):
+            for first, second in product(all_words(FIVE, order), repeat=2):
                 self.assertEqual(led_by_the_text(first, moves_between(base, first, second)), second)
 
     def test_words_of_six_items(self):

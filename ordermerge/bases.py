@@ -13,19 +13,28 @@ def is_name(value):
     return all(["a" <= letter <= "z" for letter in value])
 
 
+def names_fault(value, most):
+    """Return (problem, position) if the value is not a list of one to so many different names, or None if it is."""
+    if not isinstance(value, list):
+        return ("list", 0)
+    seen = set()
+    for at, name in enumerate(value):
+        if not is_name(name):
+            return ("name", at)
+        if name in seen:
+            return ("duplicate", at)
+        seen.add(name)
+    if not 1 <= len(value) <= most:
+        return ("count", 0)
+    return None
+
+
 def check_items(items):
     """Raise InvalidBase for the first problem of a value that is to be the items of a base."""
-    if not isinstance(items, list):
-        raise InvalidBase("list", 0)
-    seen = set()
-    for at, name in enumerate(items):
-        if not is_name(name):
-            raise InvalidBase("name", at)
-        if name in seen:
-            raise InvalidBase("duplicate", at)
-        seen.add(name)
-    if not 1 <= len(items) <= MAX_ITEMS:
-        raise InvalidBase("count", 0)
+    fault = names_fault(items, MAX_ITEMS)
+    if fault is not None:
+        problem, position = fault
+        raise InvalidBase(problem, position)
 
 
 class Base:

@@ -82,7 +82,7 @@ def all_words(names, order):
 
 
 class ErrorCase(unittest.TestCase):
-    """A test case that looks at the class and at the attributes of an error."""
+    """A test case that looks at the class and at the attributes of an error, and at both signs of equality."""
 
     def error_of(self, error_class, call, *args, **named):
         """Return the error that the call raises; it is of this very class."""
@@ -100,3 +100,10 @@ class ErrorCase(unittest.TestCase):
     def check_value(self, error_class, value, call, *args, **named):
         """Check that the call raises an error of this class with this very value."""
         self.assertIs(self.error_of(error_class, call, *args, **named).value, value)
+
+    def check_equal(self, one, two, expected):
+        """Check whether two values are equal, in both sequences and by both signs."""
+        self.assertIs(one == two, expected)
+        self.assertIs(two == one, expected)
+        self.assertIs(one != two, not expected)
+        self.assertIs(two != one, not expected)

@@ -3,144 +3,28 @@
 import copy
 import unittest
 
-from ordermerge.bases import Base, inverted_pairs, is_inverted, is_name, is_order
-from ordermerge.explain import explain_inverted, explain_upright, is_chain, is_meet_chain
-from ordermerge.histories import first_break, is_history, log_from_pairs, pairs_of_log
-from ordermerge.merging import is_within, join_orders, meet_orders
-from ordermerge.moves import apply_move, are_moves, is_word, moves_between, order_of_word, word_of
-from ordermerge.order_text import dump_base, dump_order, load_base, load_order
-from ordermerge.pair_sets import is_inversion_set, obstruction, order_from_pairs, part_about
-from ordermerge.swap_log import SwapLog, log_from_entries
-from ordermerge.swaps import distance, is_outward, swapped, swaps_between
+from ordermerge.bases import Base
+from ordermerge.boards import Board
+from ordermerge.replicas import Replica
+from ordermerge.swap_log import SwapLog
+from tests.call_rows import BASE, FUNCTIONS, METHODS, NAMED_ONLY
 
-BASE = Base(["m", "z", "a", "k"])
-ORDER = ["k", "z", "m", "a"]
-OTHER = ["z", "a", "m", "k"]
-ENTRIES = [(0, ""), (1, "urgent"), (0, "x")]
-PAIRS = [("m", "a"), ("m", "z")]
-SPLIT = [("m", "a"), ("z", "k")]
-HISTORY = [("m", "z"), ("m", "a"), ("z", "a")]
-ORDERS = [["z", "a", "m", "k"], ["m", "z", "k", "a"]]
-CHAIN = [("m", "a", 0), ("a", "k", 1)]
-EXPLAINED = {"base": BASE, "orders": ORDERS, "first": "k", "second": "m"}
-
-# Each function and class with its arguments by the names and in the sequence of the interface.
-FUNCTIONS = [
-    (is_name, {"value": "ann"}),
-    (is_name, {"value": ["ann"]}),
-    (Base, {"items": ["m", "z", "a"]}),
-    (is_order, {"base": BASE, "value": ORDER}),
-    (is_order, {"base": BASE, "value": ["k", ["z"]]}),
-    (is_inverted, {"base": BASE, "order": ORDER, "first": "z", "second": "k"}),
-    (is_inverted, {"base": BASE, "order": ORDER, "first": "z", "second": "q"}),
-    (inverted_pairs, {"base": BASE, "order": ORDER}),
-    (inverted_pairs, {"base": BASE, "order": ORDER[:2]}),
-    (dump_base, {"base": BASE}),
-    (dump_order, {"base": BASE, "order": ORDER}),
-    (dump_order, {"base": BASE, "order": ORDER + ["q"]}),
-    (load_base, {"text": "x y"}),
-    (load_base, {"text": ["x y"]}),
-    (load_order, {"base": BASE, "text": "k z m a"}),
-    (load_order, {"base": BASE, "text": "k z m"}),
-    (swapped, {"base": BASE, "order": ORDER, "index": 1}),
-    (swapped, {"base": BASE, "order": ORDER, "index": 3}),
-    (is_outward, {"base": BASE, "order": ORDER, "index": 2}),
-    (is_outward, {"base": BASE, "order": ORDER[1:], "index": 2}),
-    (distance, {"base": BASE, "order": ORDER, "other": OTHER}),
-    (distance, {"base": BASE, "order": ORDER, "other": ["q"]}),
-    (swaps_between, {"base": BASE, "order": ORDER, "other": OTHER}),
-    (swaps_between, {"base": BASE, "order": ORDER, "other": ORDER}),
-    (SwapLog, {"base": BASE}),
-    (log_from_entries, {"base": BASE, "entries": ENTRIES}),
-    (log_from_entries, {"base": BASE, "entries": ENTRIES + [(0, "")]}),
-    (obstruction, {"base": BASE, "pairs": SPLIT}),
-    (obstruction, {"base": BASE, "pairs": PAIRS + PAIRS}),
-    (is_inversion_set, {"base": BASE, "pairs": PAIRS}),
-    (order_from_pairs, {"base": BASE, "pairs": PAIRS}),
-    (order_from_pairs, {"base": BASE, "pairs": SPLIT}),
-    (part_about, {"base": BASE, "pairs": PAIRS, "first": "z", "second": "k", "third": "m"}),
-    (part_about, {"base": BASE, "pairs": PAIRS, "first": "z", "second": "a", "third": "m"}),
-    (part_about, {"base": BASE, "pairs": PAIRS, "first": "z", "second": ["a"], "third": "m"}),
-    (pairs_of_log, {"log": log_from_entries(BASE, ENTRIES)}),
-    (first_break, {"base": BASE, "pairs": SPLIT}),
-    (first_break, {"base": BASE, "pairs": PAIRS + PAIRS}),
-    (is_history, {"base": BASE, "value": HISTORY}),
-    (is_history, {"base": BASE, "value": [["m", "z"]]}),
-    (log_from_pairs, {"base": BASE, "pairs": HISTORY}),
-    (log_from_pairs, {"base": BASE, "pairs": SPLIT}),
-    (is_word, {"base": BASE, "value": [0, 1, 0]}),
-    (is_word, {"base": BASE, "value": [0, [1]]}),
-    (word_of, {"log": log_from_entries(BASE, ENTRIES)}),
-    (order_of_word, {"base": BASE, "word": [0, 1, 0]}),
-    (order_of_word, {"base": BASE, "word": [0, 1, 1]}),
-    (apply_move, {"base": BASE, "word": [0, 1, 0], "move": ("braid", 0)}),
-    (apply_move, {"base": BASE, "word": [2, 0, 1], "move": ("commute", 0)}),
-    (apply_move, {"base": BASE, "word": [2, 0, 1], "move": ["commute", 0]}),
-    (moves_between, {"base": BASE, "first": [0, 2, 1, 2], "second": [2, 0, 1, 2]}),
-    (moves_between, {"base": BASE, "first": [0, 2], "second": [0, 1]}),
-    (are_moves, {"base": BASE, "first": [0, 2], "second": [2, 0], "value": [("commute", 0)]}),
-    (are_moves, {"base": BASE, "first": [0, 2], "second": [2, 0], "value": [["commute", 0]]}),
-    (is_within, {"base": BASE, "order": ["z", "m", "a", "k"], "other": OTHER}),
-    (is_within, {"base": BASE, "order": ["z", "m"], "other": OTHER}),
-    (join_orders, {"base": BASE, "orders": ORDERS}),
-    (join_orders, {"base": BASE, "orders": [ORDER, ["m"]]}),
-    (meet_orders, {"base": BASE, "orders": ORDERS}),
-    (meet_orders, {"base": BASE, "orders": [ORDER]}),
-    (explain_inverted, EXPLAINED),
-    (explain_inverted, {**EXPLAINED, "first": "m"}),
-    (explain_upright, EXPLAINED),
-    (explain_upright, {**EXPLAINED, "first": ["m"]}),
-    (is_chain, {**EXPLAINED, "value": CHAIN}),
-    (is_chain, {**EXPLAINED, "value": [list(link) for link in CHAIN]}),
-    (is_meet_chain, {**EXPLAINED, "value": [("m", "k", 0)]}),
-    (is_meet_chain, {**EXPLAINED, "value": [["m", "k", 0]]}),
-]
-
-# The same for methods, with a function that creates their object anew.
-METHODS = [
-    (lambda: BASE, "names", {}),
-    (lambda: BASE, "has_item", {"value": "z"}),
-    (lambda: BASE, "has_item", {"value": {"z": ["z"]}}),
-    (lambda: BASE, "position_of", {"item": "a"}),
-    (lambda: BASE, "position_of", {"item": ["a"]}),
-    (lambda: BASE, "precedes", {"first": "z", "second": "a"}),
-    (lambda: BASE, "precedes", {"first": "z", "second": ["a"]}),
-    *[
-        (lambda: log_from_entries(BASE, ENTRIES), name, named)
-        for name, named in [
-            ("base", {}),
-            ("order", {}),
-            ("entries", {}),
-            ("swap", {"index": 1}),
-            ("swap", {"index": 2}),
-            ("swap", {"index": ["a"]}),
-            ("move", {"item": "k", "index": 1}),
-            ("move", {"item": "m", "index": 9}),
-            ("adopt", {"order": ORDER}),
-            ("adopt", {"order": ORDER[:3]}),
-            ("remove_entry", {"position": 1}),
-            ("remove_entry", {"position": {}}),
-            ("clear_entries", {}),
-            ("order_after", {"count": 2}),
-            ("order_after", {"count": 7}),
-            ("pair_at", {"position": 1}),
-            ("pair_at", {"position": -1}),
-            ("entry_for", {"first": "a", "second": "m"}),
-            ("entry_for", {"first": "a", "second": None}),
-            ("clone", {}),
-        ]
-    ],
-]
-
-# Parameters that are passed by name only: a function that returns the call, the arguments before them, the
-# parameter, its default value, another value.
-NAMED_ONLY = [
-    (lambda: log_from_entries(BASE, ENTRIES).swap, [2], "reason", "", "why"),
-    (lambda: log_from_entries(BASE, ENTRIES).move, ["k", 0], "reason", "", "why"),
-    (lambda: log_from_entries(BASE, ENTRIES).adopt, [ORDER], "reason", "", "why"),
-    (lambda: log_from_pairs, [BASE, HISTORY], "reason", "", "why"),
-    (lambda: moves_between, [BASE, [0, 2], [2, 0]], "limit", 5, 3),
-]
+# The methods that the interface lists for each class.
+LISTED = {
+    Base: "names has_item position_of precedes __len__ __eq__ __repr__",
+    SwapLog: (
+        "base order entries swap move adopt remove_entry clear_entries order_after pair_at entry_for clone __len__ "
+        "__eq__ __repr__"
+    ),
+    Board: (
+        "base users order entries swap move adopt remove_entry clear_entries accept merged common needed_users explain "
+        "supporters undo operations clone __len__ __eq__"
+    ),
+    Replica: (
+        "base users local order entries version versions swap move adopt accept remove_entry clear_entries undo merged "
+        "common message receive __eq__"
+    ),
+}
 
 
 def makers():
@@ -151,21 +35,34 @@ def makers():
     ]
 
 
+def shown(value):
+    """Return how a value looks; boards and replicas have no repr of their own."""
+    if isinstance(value, Board):
+        logs = [(user, value.order(user), value.entries(user)) for user in value.users()]
+        return repr((value.base(), logs, value.operations()))
+    if isinstance(value, Replica):
+        return repr((value.base(), value.local(), value.message(), value.versions()))
+    return repr(value)
+
+
 def outcome(call, args, named):
     """Return what a call returns, or its error, and how the object whose method it is looks afterwards."""
     try:
-        result = ("returned", repr(call(*args, **named)))
+        result = ("returned", shown(call(*args, **named)))
     except Exception as error:
         result = (type(error), repr(vars(error)))
-    return result + (repr(getattr(call, "__self__", None)),)
+    return result + (shown(getattr(call, "__self__", None)),)
 
 
 def spoil(result):
-    """Change a returned list, and the lists in it."""
-    for part in result:
-        if isinstance(part, list):
-            part.append("more")
-    result.append("more")
+    """Change a returned list or dict, and the lists and dicts in it, also in its tuples."""
+    if isinstance(result, (list, tuple)):
+        for part in result:
+            spoil(part)
+    if isinstance(result, list):
+        result.append("more")
+    if isinstance(result, dict):
+        result["more"] = "more"
 
 
 class CallsTest(unittest.TestCase):
@@ -206,20 +103,28 @@ class CallsTest(unittest.TestCase):
             args = list(named.values())
             call = make()
             expected = outcome(call, args, {})
-            if expected[0] == "returned" and isinstance(make()(*args), list):
+            if expected[0] == "returned" and isinstance(make()(*args), (list, dict)):
                 with self.subTest(call=call, named=named):
                     before = copy.deepcopy(named)
                     call = make()
                     result = call(*args)
-                    shown = repr(getattr(call, "__self__", None))
+                    before_spoiling = shown(getattr(call, "__self__", None))
                     spoil(result)
-                    self.assertEqual(repr(getattr(call, "__self__", None)), shown)
+                    self.assertEqual(shown(getattr(call, "__self__", None)), before_spoiling)
                     self.assertEqual(repr(named), repr(before))
                     self.assertEqual(outcome(make(), args, {}), expected)
 
-    def test_methods_of_bases_stand_in_the_class_itself(self):
-        for name in ["names", "has_item", "position_of", "precedes", "__len__", "__eq__", "__repr__"]:
-            self.assertIn(name, vars(Base))
+
+class MethodsTest(unittest.TestCase):
+    def test_they_stand_in_the_class_itself(self):
+        for owner, names in LISTED.items():
+            for name in names.split():
+                self.assertIn(name, vars(owner))
+
+    def test_each_one_is_called_above(self):
+        called = {(type(create()), name) for create, name, named in METHODS}
+        listed = {(owner, name) for owner, names in LISTED.items() for name in names.split() if "__" not in name}
+        self.assertEqual(called, listed)
 
 
 if __name__ == "__main__":

@@ -193,7 +193,7 @@ class Replica(UserLogs):
             self.replace_log(user, log, version)
         return [user for user, version, log in newer]
 
-    def change_base(self, base, logs):
+    def renew(self, base, logs):
         """Replace the base and the logs of all users, a dict; nothing can be undone that was done before."""
         self.ground = base
         for user in self.members:

@@ -2,13 +2,17 @@
 
 from ordermerge.arcs import arcs_of, is_arc, is_arc_within, is_reduced, join_of_arcs, order_of_arc, supporters
 from ordermerge.bases import Base, inverted_pairs, is_inverted, is_name, is_order
+from ordermerge.board_text import dump_board, load_board
 from ordermerge.boards import Board
+from ordermerge.console import Console
 from ordermerge.explain import explain_inverted, explain_upright, is_chain, is_meet_chain
+from ordermerge.groups import Group
 from ordermerge.histories import first_break, is_history, log_from_pairs, pairs_of_log
 from ordermerge.merging import is_within, join_orders, meet_orders
 from ordermerge.moves import apply_move, are_moves, is_word, moves_between, order_of_word, word_of
 from ordermerge.order_text import dump_base, dump_order, load_base, load_order
 from ordermerge.pair_sets import is_inversion_set, obstruction, order_from_pairs, part_about
+from ordermerge.rebase import with_item, without_item
 from ordermerge.replicas import Replica
 from ordermerge.swap_log import SwapLog, log_from_entries
 from ordermerge.swaps import distance, is_outward, swapped, swaps_between
@@ -26,6 +30,40 @@ EXPLAINED = {"base": BASE, "orders": ORDERS, "first": "k", "second": "m"}
 ARCS = [("m", "a", ("z",)), ("a", "k", ())]
 USERS = ["dan", "ann"]
 MESSAGE = [("dan", 2, ((0, ""),)), ("ann", 1, ())]
+HOMES = [("east", ["dan"]), ("west", ["ann"])]
+
+def used_board():
+    board = Board(BASE, USERS)
+    board.adopt("dan", ORDERS[0])
+    board.adopt("ann", ORDERS[1], reason="x")
+    return board
+
+
+def used_replica():
+    replica = Replica(BASE, USERS, ["ann"])
+    replica.adopt("ann", ORDERS[0])
+    replica.receive([("dan", 1, ((2, "why"),)), ("ann", 0, ())])
+    return replica
+
+
+def used_group():
+    group = Group(BASE, HOMES)
+    group.perform("ann", ("adopt", ORDERS[0], ""))
+    group.send("west")
+    return group
+
+
+def settled_group():
+    group = used_group()
+    group.settle()
+    return group
+
+
+def used_console():
+    console = Console(BASE, USERS)
+    console.run(["swap ann 0", "move dan k 0 far"])
+    return console
+
 
 # Each function and class with its arguments by the names and in the sequence of the interface.
 FUNCTIONS = [
@@ -115,21 +153,18 @@ FUNCTIONS = [
     (Board, {"base": BASE, "users": USERS + USERS}),
     (Replica, {"base": BASE, "users": USERS, "local": ["ann"]}),
     (Replica, {"base": BASE, "users": USERS, "local": ["ann", ["ann"]]}),
+    (with_item, {"log": log_from_entries(BASE, ENTRIES), "item": "q"}),
+    (with_item, {"log": log_from_entries(BASE, ENTRIES), "item": ["q"]}),
+    (without_item, {"log": log_from_entries(BASE, ENTRIES), "item": "z"}),
+    (without_item, {"log": log_from_entries(BASE, ENTRIES), "item": ["z"]}),
+    (Group, {"base": BASE, "homes": HOMES}),
+    (Group, {"base": BASE, "homes": HOMES + [["north", ["cy"]]]}),
+    (dump_board, {"board": used_board()}),
+    (load_board, {"text": "base m z\nusers ann\nswap ann 0 why\n"}),
+    (load_board, {"text": ["base m z\nusers ann\n"]}),
+    (Console, {"base": BASE, "users": USERS}),
+    (Console, {"base": BASE, "users": USERS + USERS}),
 ]
-
-
-def used_board():
-    board = Board(BASE, USERS)
-    board.adopt("dan", ORDERS[0])
-    board.adopt("ann", ORDERS[1], reason="x")
-    return board
-
-
-def used_replica():
-    replica = Replica(BASE, USERS, ["ann"])
-    replica.adopt("ann", ORDERS[0])
-    replica.receive([("dan", 1, ((2, "why"),)), ("ann", 0, ())])
-    return replica
 
 
 # Operations that boards and replicas have in common, with valid and with invalid arguments.
@@ -208,6 +243,40 @@ METHODS = [
     (used_replica, "message", {}),
     (used_replica, "receive", {"message": MESSAGE}),
     (used_replica, "receive", {"message": MESSAGE + [["dan", 1, []]]}),
+    (used_group, "base", {}),
+    (used_group, "names", {}),
+    (used_group, "users", {}),
+    (used_group, "home", {"user": "ann"}),
+    (used_group, "home", {"user": ["ann"]}),
+    (used_group, "perform", {"user": "ann", "operation": ("adopt", ORDER, "")}),
+    (used_group, "perform", {"user": "dan", "operation": ["adopt", ORDER, ""]}),
+    (used_group, "order", {"name": "west", "user": "ann"}),
+    (used_group, "order", {"name": "west", "user": ["ann"]}),
+    (used_group, "entries", {"name": "west", "user": "ann"}),
+    (used_group, "entries", {"name": ["west"], "user": "ann"}),
+    (used_group, "versions", {"name": "west"}),
+    (used_group, "versions", {"name": ["west"]}),
+    (used_group, "merged", {"name": "west"}),
+    (used_group, "merged", {"name": ["west"]}),
+    (used_group, "send", {"name": "west"}),
+    (used_group, "send", {"name": ["west"]}),
+    (used_group, "deliver", {"number": 0, "name": "east"}),
+    (used_group, "deliver", {"number": [0], "name": "east"}),
+    (used_group, "is_settled", {}),
+    (used_group, "settle", {}),
+    (used_group, "add_item", {"item": "q"}),
+    (settled_group, "add_item", {"item": "q"}),
+    (settled_group, "add_item", {"item": ["q"]}),
+    (settled_group, "remove_item", {"item": "z"}),
+    (settled_group, "remove_item", {"item": ["z"]}),
+    (settled_group, "rebase", {"order": ORDER}),
+    (settled_group, "rebase", {"order": ORDER[:2]}),
+    (used_console, "execute", {"command": "adopt ann k z m a why"}),
+    (used_console, "execute", {"command": ["merged"]}),
+    (used_console, "run", {"commands": ["clear ann", "log dan"]}),
+    (used_console, "run", {"commands": ["clear ann", "log bo"]}),
+    (used_console, "history", {}),
+    (used_console, "board", {}),
 ]
 
 # Parameters that are passed by name only: a function that returns the call, the arguments before them, the

@@ -99,7 +99,8 @@ class ExplainTest(ErrorCase):
         self.assertEqual(explain_inverted(base, orders, names[39], names[0]), chain)
         self.assertEqual(explain_inverted(base, orders, names[3], names[6]), chain[3:6])
         self.assertEqual(explain_upright(base, [order[::-1] for order in orders], names[0], names[39]), chain)
-        self.assertEqual(explain_inverted(base, orders + [names[::-1]], names[0], names[39]), [(names[0], names[39], 39)])
+        chosen = orders + [names[::-1]]
+        self.assertEqual(explain_inverted(base, chosen, names[0], names[39]), [(names[0], names[39], 39)])
         self.assertIsNone(explain_inverted(base, orders[:20] + orders[21:], names[0], names[39]))
         self.assertIs(is_chain(base, orders, names[0], names[39], chain), True)
 

@@ -72,6 +72,25 @@ def attributes_of(tree):
     ]
 
 
+def tables_of(tree):
+    """Return the names of the lists and dicts at module level."""
+    return [
+        node.targets[0].id for node in tree.body
+        if isinstance(node, ast.Assign) and isinstance(node.value, (ast.List, ast.Dict))
+    ]
+
+
+def read_names(tree):
+    """Return the names that are only read: those that are indexed, and those behind a sign such as `in`."""
+    found = []
+    for node in ast.walk(tree):
+        if isinstance(node, ast.Subscript):
+            found.append(node.value)
+        if isinstance(node, ast.Compare):
+            found += node.comparators
+    return {id(node) for node in found}
+
+
 def imported_modules(tree):
     return [node.module.split(".")[-1] for node in tree.body if isinstance(node, ast.ImportFrom)]
 
@@ -143,6 +162,17 @@ class NamesTest(unittest.TestCase):
         self.assertIn("swap", methods)
         self.assertIn("position", attributes)
         self.assertEqual(sorted(methods & attributes), [])
+
+    def test_tables_at_module_level_are_only_read(self):
+        tables = {name for tree in trees().values() for name in tables_of(tree)}
+        self.assertIn("ACTIONS", tables)
+        for module, tree in trees().items():
+            allowed = read_names(tree)
+            with self.subTest(module=module):
+                self.assertEqual([
+                    node.lineno for node in ast.walk(tree) if isinstance(node, ast.Name) and node.id in tables
+                    and isinstance(node.ctx, ast.Load) and id(node) not in allowed
+                ], [])
 
     def test_names_do_not_begin_with_an_underscore(self):
         for module, tree in trees().items():

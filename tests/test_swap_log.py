@@ -26,7 +26,8 @@ def log_of(names, indexes):
 def some_logs():
     """Return tuples (log, entries) of logs with up to six entries, among them one for each order."""
     return [log_of(NAMES, swaps_between(Base(NAMES), NAMES, order)) for order in all_orders(NAMES)] + [
-        log_of(NAMES, indexes) for indexes in [[2, 1, 0], [1, 0, 2, 1], [2, 1, 2, 0, 1, 2], [0, 2, 1, 0, 2, 1], [1, 2, 1]]
+        log_of(NAMES, indexes)
+        for indexes in [[2, 1, 0], [1, 0, 2, 1], [2, 1, 2, 0, 1, 2], [0, 2, 1, 0, 2, 1], [1, 2, 1]]
     ]
 
 
